@@ -1,0 +1,1 @@
+"""Programs with effects, their normal forms, certificates, worlds and machines."""

@@ -1,0 +1,223 @@
+"""Checks rules of the Python subset that the package is written in."""
+
+import ast
+import builtins
+import pathlib
+import re
+import unittest
+import warnings
+
+PACKAGE = pathlib.Path(__file__).resolve().parent.parent / "besideandthrough"
+PREFIX = "besideandthrough."
+LIBRARY = {"math": {"gcd", "lcm", "isqrt", "comb", "perm", "factorial"}}
+BUILTINS = set(
+    "len range enumerate zip min max sum abs sorted reversed int str bool bytes list tuple dict set"
+    " frozenset isinstance ord repr any all divmod iter next map Exception ValueError TypeError"
+    " KeyError IndexError LookupError ZeroDivisionError ArithmeticError OverflowError RuntimeError"
+    " NotImplementedError StopIteration super property staticmethod classmethod".split())
+METHODS = set(
+    "append clear copy count endswith extend find get index insert isalnum isalpha isdigit islower"
+    " isspace isupper items join keys ljust lower lstrip partition pop remove replace reverse rfind"
+    " rjust rpartition rsplit rstrip setdefault split splitlines startswith strip update upper"
+    " values zfill bit_length title capitalize swapcase casefold center expandtabs removeprefix"
+    " removesuffix rindex isascii isdecimal isnumeric istitle isidentifier isprintable add discard"
+    " sort".split())
+KINDS = (str, bytes, int, list, dict, set, tuple)
+BUILTIN_METHODS = {name for kind in KINDS for name in dir(kind) if not name.startswith("_")}
+ATTRIBUTES = {"count", "index", "title", "find", "get", "join", "lower", "upper", "split", "strip",
+              "copy", "add"}
+BARRED = {"register", "mro", "elements", "open", "input", "law", "version_info", "with_traceback",
+          "add_note"}
+WORDS = ("type", "typing", "enum", "Enum", "Flag", "Generic", "Protocol", "ABC", "namedtuple",
+         "NamedTuple", "abstractmethod")
+STATEMENTS = (
+    ast.Assign, ast.AugAssign, ast.If, ast.While, ast.For, ast.Return, ast.Break, ast.Continue,
+    ast.Pass, ast.Raise, ast.Assert, ast.Delete, ast.Nonlocal, ast.Match, ast.With, ast.Try,
+    ast.Expr, ast.FunctionDef, ast.ClassDef, ast.ImportFrom)
+DOUBLES = re.compile(r"__(init|eq|repr|str|len|enter|exit|call|iter)__")
+
+
+def sources():
+    return {path.name: path.read_text(encoding="utf-8") for path in sorted(PACKAGE.glob("*.py"))}
+
+
+def trees():
+    return {name: ast.parse(text) for name, text in sources().items()}
+
+
+def bound_names(tree):
+    """All names that a file binds, with the line of each."""
+    for node in ast.walk(tree):
+        if isinstance(node, ast.Name) and isinstance(node.ctx, ast.Store):
+            yield node.id, node.lineno
+        elif isinstance(node, ast.arg):
+            yield node.arg, node.lineno
+        elif isinstance(node, ast.ExceptHandler) and node.name:
+            yield node.name, node.lineno
+        elif isinstance(node, ast.FunctionDef):
+            yield node.name, node.lineno
+
+
+def imports_of(tree):
+    return [node for node in tree.body if isinstance(node, ast.ImportFrom)]
+
+
+class Language(unittest.TestCase):
+    def each(self, wanted=ast.AST):
+        for name, tree in trees().items():
+            for node in ast.walk(tree):
+                if isinstance(node, wanted):
+                    yield f"{name}:{getattr(node, 'lineno', 0)}", node
+
+    def test_files(self):
+        for path in PACKAGE.iterdir():
+            if path.name != "__pycache__":
+                self.assertRegex(path.name, r"^[a-z_][a-z0-9_]*\.py$")
+
+    def test_sizes_and_characters(self):
+        for name, text in sources().items():
+            lines = text.split("\n")
+            self.assertLessEqual(len(lines), 399, name)
+            self.assertRegex(text, r"\A[ -~\n]*\Z", name)
+            self.assertLessEqual(max(map(len, lines)), 120, name)
+        for where, node in self.each(ast.FunctionDef):
+            self.assertLessEqual(node.end_lineno - node.lineno + 1, 40, where)
+
+    def test_no_warnings(self):
+        with warnings.catch_warnings():
+            warnings.simplefilter("error")
+            for name, text in sources().items():
+                compile(text, name, "exec")
+
+    def test_imports(self):
+        files = trees()
+        for name, tree in files.items():
+            for node in imports_of(tree):
+                self.assertEqual(node.level, 0, name)
+                self.assertTrue(all(alias.asname is None for alias in node.names), name)
+                names = {alias.name for alias in node.names}
+                if node.module in LIBRARY:
+                    self.assertLessEqual(names, LIBRARY[node.module], name)
+                else:
+                    self.assertTrue(node.module.startswith(PREFIX), name)
+                    defined = self.defined_in(files[node.module[len(PREFIX):] + ".py"])
+                    self.assertLessEqual(names, defined, name)
+                for other in names:
+                    uses = [use for use in ast.walk(tree)
+                            if isinstance(use, ast.Name) and use.id == other]
+                    self.assertTrue(uses, f"{name} does not use {other}")
+
+    def defined_in(self, tree):
+        names = set()
+        for node in tree.body:
+            if isinstance(node, (ast.FunctionDef, ast.ClassDef)):
+                names.add(node.name)
+            elif isinstance(node, ast.Assign):
+                names.add(node.targets[0].id)
+        return names
+
+    def test_no_two_files_import_from_each_other(self):
+        needs = {name[:-3]: {node.module[len(PREFIX):] for node in imports_of(tree)
+                             if node.module.startswith(PREFIX)}
+                 for name, tree in trees().items()}
+        while needs:
+            free = [name for name, others in needs.items() if not others & set(needs)]
+            self.assertTrue(free, needs)
+            for name in free:
+                del needs[name]
+
+    def test_module_level(self):
+        for name, tree in trees().items():
+            for at, node in enumerate(tree.body):
+                if isinstance(node, ast.Expr):
+                    self.assertTrue(at == 0 and isinstance(node.value, ast.Constant), name)
+                elif isinstance(node, ast.Assign):
+                    self.assertEqual(len(node.targets), 1)
+                    self.assertIsInstance(node.targets[0], ast.Name)
+                    kinds = {type(part) for part in ast.walk(node.value)}
+                    self.assertLessEqual(kinds, {
+                        ast.Constant, ast.Tuple, ast.List, ast.Dict, ast.Name, ast.Load})
+                else:
+                    self.assertIsInstance(node, (ast.ImportFrom, ast.FunctionDef, ast.ClassDef))
+
+    def test_statements(self):
+        for where, node in self.each(ast.stmt):
+            self.assertIsInstance(node, STATEMENTS, where)
+        for where, node in self.each((ast.FunctionDef, ast.ClassDef)):
+            self.assertEqual(node.decorator_list, [], where)
+        for where, node in self.each(ast.ClassDef):
+            self.assertRegex(node.name, r"^[A-Z]", where)
+            for part in node.body:
+                self.assertIsInstance(part, (ast.FunctionDef, ast.Expr), where)
+
+    def test_expressions(self):
+        for where, node in self.each():
+            self.assertNotIsInstance(node, (ast.Div, ast.MatMult, ast.Await, ast.Set), where)
+            if isinstance(node, ast.Constant):
+                self.assertNotIsInstance(node.value, (float, complex), where)
+                if isinstance(node.value, str):
+                    self.assertNotIn("%", node.value, where)
+            if isinstance(node, ast.Compare):
+                for operator, right in zip(node.ops, node.comparators):
+                    if isinstance(operator, (ast.Is, ast.IsNot)):
+                        self.assertIn(ast.unparse(right), ("None", "True", "False"), where)
+
+    def test_names(self):
+        for name, tree in trees().items():
+            taken = {alias.name for node in imports_of(tree) for alias in node.names}
+            taken |= {node.name for node in tree.body if isinstance(node, ast.ClassDef)}
+            for bound, line in bound_names(tree):
+                where = f"{name}:{line} {bound}"
+                if DOUBLES.fullmatch(bound):
+                    continue
+                self.assertRegex(bound, r"^(_?[A-Za-z][A-Za-z0-9_]*|_)$", where)
+                self.assertFalse(hasattr(builtins, bound), where)
+                self.assertNotIn(bound, BARRED, where)
+                self.assertNotIn(bound, taken, where)
+
+    def test_builtins(self):
+        for where, node in self.each(ast.Name):
+            self.assertNotIn(node.id, BARRED, where)
+            if hasattr(builtins, node.id):
+                self.assertIn(node.id, BUILTINS, where)
+
+    def test_attributes(self):
+        methods = {node.name for _, found in self.each(ast.ClassDef) for node in found.body
+                   if isinstance(node, ast.FunctionDef)}
+        stored = {node.attr for _, node in self.each(ast.Attribute)
+                  if isinstance(node.ctx, ast.Store)}
+        self.assertFalse(methods & stored)
+        self.assertFalse(stored & (BUILTIN_METHODS - ATTRIBUTES))
+        for where, node in self.each(ast.Attribute):
+            self.assertNotIn(node.attr, BARRED, where)
+            if node.attr not in methods | stored:
+                self.assertIn(node.attr, METHODS, where)
+
+    def test_handlers(self):
+        own = {node.name for _, node in self.each(ast.ClassDef)}
+        for where, node in self.each(ast.ExceptHandler):
+            self.assertIn(ast.unparse(node.type), own | {"KeyError", "ZeroDivisionError"}, where)
+        for where, node in self.each(ast.Raise):
+            if node.exc:
+                self.assertIsInstance(node.exc, ast.Call, where)
+                self.assertIn(node.exc.func.id, own, where)
+
+    def test_words(self):
+        for name, text in sources().items():
+            code = re.sub(r'"""(.|\n)*?"""|#.*', "", text)
+            for word in WORDS:
+                self.assertIsNone(re.search(r"\b%s\b" % word, code), f"{name}: {word}")
+
+    def test_generators_have_names_of_their_own(self):
+        functions = [node for _, node in self.each(ast.FunctionDef)]
+        yielding = [node.name for node in functions
+                    if any(isinstance(part, (ast.Yield, ast.YieldFrom)) for part in ast.walk(node))]
+        names = [node.name for node in functions]
+        for name in yielding:
+            self.assertEqual(names.count(name), 1, name)
+            for where, node in self.each(ast.Name):
+                self.assertFalse(node.id == name and isinstance(node.ctx, ast.Store), where)
+
+
+if __name__ == "__main__":
+    unittest.main()
