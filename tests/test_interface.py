@@ -1,0 +1,76 @@
+import importlib
+import inspect
+import unittest
+
+FUNCTIONS = {
+    "tokens": ("tokens_of(line, number)", "number_in(token)", "is_name(token)"),
+    "values": ("value_text(value)", "read_value(text)", "is_value_text(text)"),
+    "shares": ("lowest(num, den)", "plus(a, b)", "minus(a, b)", "times(a, b)", "below(a, b)",
+               "greater(a, b)", "mean(num, den, a, b)"),
+    "books": ("choices(kernel)", "draws(kernel)", "like_books(one, other)", "read_book(text)",
+              "write_book(book)"),
+    "states": ("starts(book)", "starts_below(book, layer, state)",
+               "place_below(book, layer, state)", "kept(book, state, layer)",
+               "changed(state, layer, entry)", "noted(book, state, layer, member)"),
+    "webs": ("ways_on(book, deed)", "reached(web, root)", "copied(web, source, root)"),
+    "webtexts": ("write_web(web, root)", "read_web(book, text)"),
+    "reader": ("read_program(text)", "read_expression(text)"),
+    "writer": ("write_program(program)", "write_expression(expression)", "write_kind(kind)"),
+    "kinds": ("joined(one, other)", "fits(kind, other)", "has(kind, value)",
+              "kind_of(book, functions, expression, names)", "weight(functions, expression)",
+              "check(book, program)"),
+    "running": ("evaluate(play, functions, expression, names)",
+                "run(book, program, *, start, script=())"),
+    "webruns": ("walk(play, web, root)", "run_web(web, root, *, start, script=())",
+                "deeds_on_run(web, root, *, start, script=())", "ways(web, root, start)"),
+}
+CLASSES = {
+    "errors": {"DeedsError": (), "TextError": ("(line, token)",), "BookError": ("(layer)",),
+               "KindError": ("(where)",), "PaperError": ("(row)",), "WorldError": ("(row)",),
+               "WebError": (), "TooLarge": (), "MachineError": (), "BenchError": ()},
+    "books": {"Book": ("(kernel, layers)", "word_at(layer)", "count_at(layer)",
+                       "ways_at(layer, deed)", "product(layer, first, second)",
+                       "number_of(name)")},
+    "webs": {"Web": ("(book)", "make(deed, children)", "deed_of(node)", "children_of(node)",
+                     "size_of(node)")},
+    "plays": {"Play": ("(book, start, script)", "answer(deed)", "restore(layer, state)",
+                       "outcome(deed)")},
+}
+
+
+class Interface(unittest.TestCase):
+    def module(self, name):
+        return importlib.import_module("besideandthrough." + name)
+
+    def test_functions(self):
+        for place, told in FUNCTIONS.items():
+            module = self.module(place)
+            for line in told:
+                with self.subTest(line):
+                    found = getattr(module, line.split("(")[0])
+                    self.assertEqual(found.__module__, module.__name__)
+                    self.assertEqual(found.__name__ + str(inspect.signature(found)), line)
+
+    def test_classes(self):
+        for place, classes in CLASSES.items():
+            module = self.module(place)
+            for name, methods in classes.items():
+                found = getattr(module, name)
+                self.assertEqual(found.__module__, module.__name__)
+                for line in methods:
+                    with self.subTest(name + " " + line):
+                        word = line.split("(")[0] or "__init__"
+                        # Defined in the class itself, not only in a base class.
+                        method = vars(found)[word]
+                        told = str(inspect.signature(method)).replace("(self, ", "(")
+                        self.assertEqual(told, "(" + line.split("(", 1)[1])
+
+    def test_ways_is_a_generator(self):
+        self.assertTrue(inspect.isgeneratorfunction(self.module("webruns").ways))
+
+    def test_objects_can_be_iterated_over(self):
+        self.assertIn("__iter__", vars(self.module("webs").Web))
+
+
+if __name__ == "__main__":
+    unittest.main()
