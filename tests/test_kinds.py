@@ -232,6 +232,21 @@ class DeedExpressions(Expressions):
         ):
             self.check({"(try f 0 1 1)": kind}, Book("none", layers))
 
+    def test_names_of_no_layer_and_of_other_layers(self):
+        texts = ("(get x)", "(look x)", "(put x 0)", "(note x 0)", "(fail x 0)", "(ask x 0)",
+                 "(try x 0 1 1)")
+        others = ("(get f)", "(look c)", "(put f 0)", "(note c 0)", "(fail c 0)", "(ask f 0)",
+                  "(try c 0 1 1)")
+        for layers in ([], [("cell", "c", 2), ("fail", "f", 1)], [("fail", "f", 1),
+                                                                  ("cell", "c", 2)]):
+            self.check({text: None for text in texts + others}, Book("none", layers))
+
+    def test_the_error(self):
+        for text in ("x", "(first 1)", "(get x)", "(pair 60 x)"):
+            with self.assertRaises(KindError) as caught:
+                kind_of(wide_book(), {}, read_expression(text), {})
+            self.assertEqual(caught.exception.where, "expression")
+
     def test_what_was_handed_in_stays(self):
         names, functions = dict(NAMES), dict(FUNCTIONS)
         kind_in("(let x 1 (repeat 2 bit x (call f 1 2)))", names=names, functions=functions)

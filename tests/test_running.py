@@ -5,7 +5,7 @@ from besideandthrough.books import Book, read_book
 from besideandthrough.kinds import check, has
 from besideandthrough.plays import Play
 from besideandthrough.reader import read_expression, read_program
-from besideandthrough.running import evaluate, run
+from besideandthrough.running import deed_for, evaluate, run
 from besideandthrough.states import starts
 from besideandthrough.values import read_value
 from besideandthrough.webruns import deeds_on_run, run_web
@@ -126,6 +126,15 @@ class Deeds(unittest.TestCase):
         self.assertEqual(told("(if 0 (choose 0) 2)")[1].deeds, 0)
         self.assertEqual(told("(try f 0 2 (choose 0))")[1].deeds, 0)
         self.assertEqual(told("(repeat 4 x 0 (choose 0))")[1].deeds, 4)
+
+    def test_deeds_of_expressions(self):
+        for text, values, deed in (
+            ("(choose 1)", [], ("choose", 1)), ("(draw 1 2 5)", [], ("draw", 1, 2, 5)),
+            ("(get c)", [], ("get", 2)), ("(look s)", [], ("look", 1)),
+            ("(put c 0)", [1], ("put", 2, 1)), ("(note n 0)", [2], ("note", 3, 2)),
+            ("(ask o 1)", [], ("ask", 4, 1)),
+        ):
+            self.assertEqual(deed_for(wide_book(), read_expression(text), values), deed)
 
     def test_a_play_that_has_done_deeds_before(self):
         play = Play(wide_book(), (1, 0, 0, 0, 0), [1, 0, 1])

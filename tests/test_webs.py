@@ -35,7 +35,7 @@ class Deeds(unittest.TestCase):
             for number in range(-2, 8):
                 rest = () if word in ("get", "look") else (0,)
                 told = ways_on(wide_book(), (word, number, *rest))
-                self.assertEqual(told >= 0, number == layer, (word, number))
+                self.assertEqual(told == -1, number != layer, (word, number))
 
     def test_sizes_of_ways(self):
         book = Book("none", [("cell", "c", 3), ("setting", "s", 2), ("outside", "o", (2,))])
