@@ -115,7 +115,7 @@ def evaluate(play, functions, expression, names):
         return "fail", failing.layer, failing.kind
 
 
-def _bodies(functions):
+def bodies_by_name(functions):
     """Returns the parameters' names and the body of each function by its name."""
     found = {}
     for name, parameters, body in functions:
@@ -127,7 +127,7 @@ def run(book, program, *, start, script=()):
     """Returns the outcome of a run of a program."""
     functions, expression = program
     play = Play(book, start, script)
-    told = evaluate(play, _bodies(functions), expression, {})
+    told = evaluate(play, bodies_by_name(functions), expression, {})
     if told[0] == "value":
         return play.outcome(("ret", value_text(told[1])))
     return play.outcome(told)

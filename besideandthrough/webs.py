@@ -112,25 +112,34 @@ class Web:
         return self.sizes[node]
 
 
-def _first_missing(children, placed):
-    """Returns the first child that is not placed, or -1 if all are."""
-    for child in children:
-        if child not in placed:
-            return child
-    return -1
+def _first_missing(followers, placed):
+    """Returns a list of the first follower that is not placed; it is empty if all are."""
+    for follower in followers:
+        if follower not in placed:
+            return [follower]
+    return []
+
+
+def ordered(root, follow):
+    """Returns the list of all that root leads to, each one behind those that follow it.
+
+    Followers are ints, strings or tuples of these. What follows is asked for several
+    times, and none may lead back to itself.
+    """
+    placed = {}
+    waiting = [root]
+    while waiting:
+        missing = _first_missing(follow(waiting[-1]), placed)
+        if missing:
+            waiting.extend(missing)
+        else:
+            placed[waiting.pop()] = True
+    return list(placed)
 
 
 def reached(web, root):
     """Returns the list of the nodes of the part under a node, in its order."""
-    placed = {}
-    waiting = [root]
-    while waiting:
-        missing = _first_missing(web.children_of(waiting[-1]), placed)
-        if missing < 0:
-            placed[waiting.pop()] = True
-        else:
-            waiting.append(missing)
-    return list(placed)
+    return ordered(root, lambda node: web.children_of(node))
 
 
 def copied(web, source, root):

@@ -9,7 +9,12 @@ import warnings
 
 PACKAGE = pathlib.Path(__file__).resolve().parent.parent / "besideandthrough"
 PREFIX = "besideandthrough."
-LIBRARY = {"math": {"gcd", "lcm", "isqrt", "comb", "perm", "factorial"}}
+LIBRARY = {
+    "math": {"gcd", "lcm", "isqrt", "comb", "perm", "factorial"},
+    "itertools": {"product", "combinations", "permutations"},
+}
+# The calls that iterate at once over products and combinations.
+ITERATING = {"list", "tuple", "sorted", "sum", "min", "max", "any", "all"}
 BUILTINS = set(
     "len range enumerate zip min max sum abs sorted reversed int str bool bytes list tuple dict set"
     " frozenset isinstance ord repr any all divmod iter next map Exception ValueError TypeError"
@@ -143,12 +148,37 @@ class Language(unittest.TestCase):
     def test_statements(self):
         for where, node in self.each(ast.stmt):
             self.assertIsInstance(node, STATEMENTS, where)
-        for where, node in self.each((ast.FunctionDef, ast.ClassDef)):
-            self.assertEqual(node.decorator_list, [], where)
+        methods = []
         for where, node in self.each(ast.ClassDef):
+            self.assertEqual(node.decorator_list, [], where)
             self.assertRegex(node.name, r"^[A-Z]", where)
             for part in node.body:
                 self.assertIsInstance(part, (ast.FunctionDef, ast.Expr), where)
+            methods += [ast.dump(part) for part in node.body]
+        for where, node in self.each(ast.FunctionDef):
+            decorators = [ast.unparse(part) for part in node.decorator_list]
+            self.assertIn(decorators, ([], ["property"], ["staticmethod"]), where)
+            self.assertTrue(decorators == [] or ast.dump(node) in methods, where)
+
+    def test_properties(self):
+        properties = [node.name for _, node in self.each(ast.FunctionDef)
+                      if [ast.unparse(part) for part in node.decorator_list] == ["property"]]
+        for where, node in self.each(ast.FunctionDef):
+            if node.name in properties:
+                self.assertEqual(len(node.args.args), 1, where)
+        for where, node in self.each(ast.Attribute):
+            if isinstance(node.ctx, ast.Store):
+                self.assertNotIn(node.attr, properties, where)
+        self.assertFalse(set(properties) & BUILTIN_METHODS)
+
+    def test_products_are_iterated_at_once(self):
+        names = LIBRARY["itertools"]
+        for where, node in self.each():
+            for part in ast.iter_child_nodes(node):
+                if isinstance(part, ast.Call) and ast.unparse(part.func) in names:
+                    at_once = isinstance(node, (ast.For, ast.comprehension)) or (
+                        isinstance(node, ast.Call) and ast.unparse(node.func) in ITERATING)
+                    self.assertTrue(at_once, where)
 
     def test_expressions(self):
         for where, node in self.each():
