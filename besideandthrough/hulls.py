@@ -70,7 +70,7 @@ def _solved(equations):
     """Returns the list of the fractions that solve equations; each ends with its right side."""
     rows = list(equations)
     last = 1
-    for at in range(len(rows)):
+    for at in range(len(equations)):
         found = at
         while rows[found][at] == 0:
             found += 1

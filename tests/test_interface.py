@@ -23,6 +23,16 @@ FUNCTIONS = {
                 "run(book, program, *, start, script=())"),
     "webruns": ("walk(play, web, root)", "run_web(web, root, *, start, script=())",
                 "deeds_on_run(web, root, *, start, script=())", "ways(web, root, start)"),
+    "grafts": ("results(web, root)", "grafted(web, root, table)",
+               "caught(web, root, layer, kind, other)"),
+    "unfolding": ("unfold_expression(web, functions, expression, names, *, limit=400)",
+                  "unfold(web, program, *, limit=400)"),
+    "compiling": ("compiled(book, program)",),
+    "machine": ("run_code(book, code, *, start, script=())",),
+    "standings": ("write_standing(machine)", "read_standing(book, code, script, text)",
+                  "standings(book, code, *, start, script=())"),
+    "points": ("point_of(pairs)", "blend(a, b, one, other)"),
+    "hulls": ("nearest(point, others)",),
 }
 CLASSES = {
     "errors": {"DeedsError": (), "TextError": ("(line, token)",), "BookError": ("(layer)",),
@@ -35,7 +45,11 @@ CLASSES = {
                      "size_of(node)")},
     "plays": {"Play": ("(book, start, script)", "answer(deed)", "restore(layer, state)",
                        "outcome(deed)")},
+    "machine": {"Machine": ("(book, code, start, script)", "step()", "outcome()")},
 }
+GENERATORS = {"webruns": "ways", "standings": "standings"}
+ITERATED = {"webs": "Web"}
+PROPERTIES = {"machine": ("Machine", "instruction")}
 
 
 class Interface(unittest.TestCase):
@@ -63,13 +77,22 @@ class Interface(unittest.TestCase):
                         # Defined in the class itself, not only in a base class.
                         method = vars(found)[word]
                         told = str(inspect.signature(method)).replace("(self, ", "(")
+                        told = told.replace("(self)", "()")
                         self.assertEqual(told, "(" + line.split("(", 1)[1])
 
-    def test_ways_is_a_generator(self):
-        self.assertTrue(inspect.isgeneratorfunction(self.module("webruns").ways))
+    def test_generators(self):
+        for place, name in GENERATORS.items():
+            self.assertTrue(inspect.isgeneratorfunction(getattr(self.module(place), name)), name)
 
     def test_objects_can_be_iterated_over(self):
-        self.assertIn("__iter__", vars(self.module("webs").Web))
+        for place, name in ITERATED.items():
+            self.assertIn("__iter__", vars(getattr(self.module(place), name)))
+
+    def test_properties_cannot_be_assigned(self):
+        for place, (name, word) in PROPERTIES.items():
+            found = vars(getattr(self.module(place), name))[word]
+            self.assertIsInstance(found, property)
+            self.assertIsNone(found.fset)
 
 
 if __name__ == "__main__":
