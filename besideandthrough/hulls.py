@@ -2,19 +2,11 @@
 
 from math import gcd, lcm
 
+from besideandthrough.points import listed_ends
 from besideandthrough.shares import below, lowest, minus, plus, times
 
 NOTHING = (0, 1)
 WHOLE = (1, 1)
-
-
-def _listed_ends(points):
-    """Returns the list of all ends that share points list, ascending, each once."""
-    found = []
-    for end in sorted([end for _, pairs in points for end, _ in pairs]):
-        if not found or found[-1] != end:
-            found.append(end)
-    return found
 
 
 def _numbers_over(ends, point):
@@ -152,7 +144,7 @@ def _reduced(numbers):
 
 def nearest(point, others):
     """Returns the weights of a mixture of others that is the share point, or a bar."""
-    ends = _listed_ends([point, *others])
+    ends = listed_ends([point, *others])
     rows = [_way_to(ends, point, other) for other in others]
     bar = _plain_bar(rows)
     if not bar:

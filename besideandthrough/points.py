@@ -3,6 +3,20 @@
 from math import gcd, lcm
 
 
+def distinct(things):
+    """Returns the list of things that can be compared, ascending, each once."""
+    found = []
+    for thing in sorted(things):
+        if not found or found[-1] != thing:
+            found.append(thing)
+    return found
+
+
+def listed_ends(points):
+    """Returns the list of all ends that share points list, ascending, each once."""
+    return distinct([end for _, pairs in points for end, _ in pairs])
+
+
 def point_of(pairs):
     """Returns the share point of pairs of an end and a number, in any order."""
     ends = []
@@ -22,6 +36,8 @@ def point_of(pairs):
 
 def mixture(weights, points):
     """Returns the mixture of share points with a weight for each of them."""
+    if len(points) == 1:
+        return points[0]
     common = 1
     for den, _ in points:
         common = lcm(common, den)

@@ -76,3 +76,14 @@ def line_changes(text):
             yield "\n".join(changed)
     for at in range(len(lines) + 1):
         yield "\n".join(lines[:at] + [""] + lines[at:])
+
+
+def node_of(web, text):
+    """The node of the last line of a text like that of a web, in any order of the lines."""
+    numbers = []
+    for line in text.split("\n"):
+        head, _, tail = line.partition(" : ")
+        word, _, rest = head.partition(" ")
+        deed = (word, rest) if word == "ret" else (word, *map(int, rest.split(" ")))
+        numbers.append(web.make(deed, [numbers[int(at)] for at in tail.split()]))
+    return numbers[-1]

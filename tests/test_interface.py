@@ -33,6 +33,20 @@ FUNCTIONS = {
                   "standings(book, code, *, start, script=())"),
     "points": ("point_of(pairs)", "blend(a, b, one, other)"),
     "hulls": ("nearest(point, others)",),
+    "bodies": ("only(end)", "settled(kernel, points, *, most=8)", "either(kernel, one, other)",
+               "drawn(kernel, a, b, one, other)", "ends_of(body)", "ends_within(body)",
+               "carried(kernel, body, images)"),
+    "forms": ("body_at(web, node, state)", "form_of(web, root)"),
+    "acting": ("prefixed(book, body, notes)", "body_in(book, form, state)",
+               "act(book, deed, forms)", "form_from_ends(web, root)"),
+    "thens": ("then(book, form, table)", "rescue(book, form, layer, kind, other)"),
+    "terms": ("end_term(web, end)", "body_term(web, body)", "part_term(web, layer, part)",
+              "term_of(web, form)", "end_of(web, node)", "body_of(web, node)",
+              "part_of(web, layer, node)"),
+    "steps": ("may_swap(book, one, other)", "members_of(web, piece, node)",
+              "shares_of(web, piece, node)", "is_step(web, word, a, b)"),
+    "papers": ("judge(paper)", "turned(paper)", "followed(paper, *others)",
+               "cut(paper, *, row=0)"),
 }
 CLASSES = {
     "errors": {"DeedsError": (), "TextError": ("(line, token)",), "BookError": ("(layer)",),
@@ -46,10 +60,12 @@ CLASSES = {
     "plays": {"Play": ("(book, start, script)", "answer(deed)", "restore(layer, state)",
                        "outcome(deed)")},
     "machine": {"Machine": ("(book, code, start, script)", "step()", "outcome()")},
+    "forms": {"Evaluator": ("(web)", "__call__(node, state)")},
+    "papers": {"Paper": ("(web, rows)",)},
 }
-GENERATORS = {"webruns": "ways", "standings": "standings"}
-ITERATED = {"webs": "Web"}
-PROPERTIES = {"machine": ("Machine", "instruction")}
+GENERATORS = {"webruns": "ways", "standings": "standings", "bodies": "ends_within"}
+ITERATED = {"webs": "Web", "papers": "Paper"}
+PROPERTIES = {"machine": ("Machine", "instruction"), "forms": ("Evaluator", "worked")}
 
 
 class Interface(unittest.TestCase):

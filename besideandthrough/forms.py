@@ -1,0 +1,91 @@
+"""Forms: the bodies of a node at the start states."""
+
+from besideandthrough.bodies import drawn, either, only
+from besideandthrough.plays import end_at
+from besideandthrough.states import changed, kept, noted, starts, starts_below
+
+
+def uses(book, deed, state):
+    """Returns the pairs of a way and a state whose bodies a deed uses at a state."""
+    word = deed[0]
+    if word in ("get", "look"):
+        return [(state[deed[1] - 1], state)]
+    if word == "put":
+        return [(0, changed(state, deed[1], deed[2]))]
+    if word == "note":
+        return [(0, noted(book, state, deed[1], deed[2]))]
+    if word in ("choose", "draw"):
+        return [(0, state), (1, state)]
+    if word == "ask":
+        below = starts_below(book, deed[1], state)
+        return [(way, each) for way in range(book.ways_at(deed[1], deed[2])) for each in below]
+    return []
+
+
+def _asked_end(book, deed, state, bodies):
+    """Returns the end of an ask whose children have these bodies, part by part."""
+    _, layer, outside = deed
+    size = len(bodies) // book.ways_at(layer, outside)
+    parts = [tuple(bodies[at:at + size]) for at in range(0, len(bodies), size)]
+    return "ask", layer, outside, kept(book, state, layer), tuple(parts)
+
+
+def body_over(book, deed, state, bodies):
+    """Returns the body of a deed at a state from the list of the bodies that it uses."""
+    word = deed[0]
+    if word == "choose":
+        return either(book.kernel, bodies[0], bodies[1])
+    if word == "draw":
+        return drawn(book.kernel, deed[2], deed[3], bodies[0], bodies[1])
+    if word == "ask":
+        return only(_asked_end(book, deed, state, bodies))
+    if word in ("ret", "fail"):
+        return only(end_at(book, state, deed))
+    return bodies[0]
+
+
+class Evaluator:
+    """Finds the bodies of the nodes of one web and remembers them."""
+
+    def __init__(self, web):
+        self.web = web
+        self.bodies = {}
+
+    @property
+    def worked(self):
+        """The number of different pairs of a node and a state that have been needed."""
+        return len(self.bodies)
+
+    def __call__(self, node, state):
+        """Returns the body of a node at a state."""
+        waiting = [(node, state)]
+        while waiting:
+            pair = waiting.pop()
+            if pair not in self.bodies:
+                waiting.extend(self._worked_on(pair))
+        return self.bodies[node, state]
+
+    def _worked_on(self, pair):
+        """Finds the body of a pair, or returns the pair and those that it needs first."""
+        node, state = pair
+        deed = self.web.deed_of(node)
+        children = self.web.children_of(node)
+        needed = [(children[way], each) for way, each in uses(self.web.book, deed, state)]
+        missing = [other for other in needed if other not in self.bodies]
+        if missing:
+            return [pair, *missing]
+        bodies = [self.bodies[other] for other in needed]
+        self.bodies[pair] = body_over(self.web.book, deed, state, bodies)
+        return []
+
+
+def body_at(web, node, state):
+    """Returns the body of a node at a state."""
+    evaluator = Evaluator(web)
+    return evaluator(node, state)
+
+
+def form_of(web, root):
+    """Returns the form of a node: its bodies at the start states."""
+    evaluator = Evaluator(web)
+    return tuple([evaluator(root, state) for state in starts(web.book)])
