@@ -38,6 +38,13 @@ def drawn(kernel, a, b, one, other):
     return settled(kernel, [blend(a, b, first, second) for first in one for second in other])
 
 
+def body_above(kernel, deed, one, other):
+    """Returns the body of a choose or a draw whose children have two bodies."""
+    if deed[0] == "choose":
+        return either(kernel, one, other)
+    return drawn(kernel, deed[2], deed[3], one, other)
+
+
 def ends_of(body):
     """Returns the list of the ends of a body, ascending, each once."""
     return listed_ends(body)

@@ -1,6 +1,6 @@
 """Forms: the bodies of a node at the start states."""
 
-from besideandthrough.bodies import drawn, either, only
+from besideandthrough.bodies import body_above, only
 from besideandthrough.plays import end_at
 from besideandthrough.states import changed, kept, noted, starts, starts_below
 
@@ -33,10 +33,8 @@ def _asked_end(book, deed, state, bodies):
 def body_over(book, deed, state, bodies):
     """Returns the body of a deed at a state from the list of the bodies that it uses."""
     word = deed[0]
-    if word == "choose":
-        return either(book.kernel, bodies[0], bodies[1])
-    if word == "draw":
-        return drawn(book.kernel, deed[2], deed[3], bodies[0], bodies[1])
+    if word in ("choose", "draw"):
+        return body_above(book.kernel, deed, bodies[0], bodies[1])
     if word == "ask":
         return only(_asked_end(book, deed, state, bodies))
     if word in ("ret", "fail"):

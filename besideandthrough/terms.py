@@ -1,6 +1,6 @@
 """Terms: nodes that stand for ends, bodies, parts and forms, and the ways back."""
 
-from besideandthrough.bodies import drawn, either, only
+from besideandthrough.bodies import body_above, only
 from besideandthrough.shares import lowest
 from besideandthrough.states import has_values
 from besideandthrough.webs import ordered
@@ -94,22 +94,15 @@ def _branches(web, node):
     return ()
 
 
-def _body_behind(web, node, bodies):
-    """Returns the body of a node from the bodies of its branches."""
-    deed = web.deed_of(node)
-    behind = [bodies[child] for child in _branches(web, node)]
-    if deed[0] == "choose":
-        return either(web.book.kernel, behind[0], behind[1])
-    if deed[0] == "draw":
-        return drawn(web.book.kernel, deed[2], deed[3], behind[0], behind[1])
-    return only(end_of(web, node))
-
-
 def body_of(web, node):
     """Returns the body of a node that is made of choices and draws over terms of ends."""
     bodies = {}
     for each in ordered(node, lambda at: _branches(web, at)):
-        bodies[each] = _body_behind(web, each, bodies)
+        behind = [bodies[child] for child in _branches(web, each)]
+        if behind:
+            bodies[each] = body_above(web.book.kernel, web.deed_of(each), behind[0], behind[1])
+        else:
+            bodies[each] = only(end_of(web, each))
     return bodies[node]
 
 

@@ -87,3 +87,11 @@ def node_of(web, text):
         deed = (word, rest) if word == "ret" else (word, *map(int, rest.split(" ")))
         numbers.append(web.make(deed, [numbers[int(at)] for at in tail.split()]))
     return numbers[-1]
+
+
+def remade(web, source):
+    """Makes all nodes of a web in another one, and returns their numbers there in order."""
+    numbers = []
+    for deed, children in source:
+        numbers.append(web.make(deed, [numbers[child] for child in children]))
+    return numbers

@@ -9,7 +9,7 @@ from besideandthrough.points import point_of
 from besideandthrough.states import starts
 from besideandthrough.webs import Web, reached
 from besideandthrough.webtexts import read_web
-from tests.helpers import KERNELS, LEFT, SIGNS
+from tests.helpers import KERNELS, LEFT, SIGNS, remade
 from tests.nodes import all_nodes, books
 from tests.test_forms import bow
 
@@ -178,9 +178,7 @@ class FromEnds(unittest.TestCase):
         small, root = bow(9)
         book = Book("spread", [("cell", "c", 2)])
         web = Web(book)
-        numbers = {}
-        for node, (deed, children) in enumerate(small):
-            numbers[node] = web.make(deed, [numbers[child] for child in children])
+        numbers = remade(web, small)
         get = web.make(("get", 1), [web.make(("ret", "0"), ()), numbers[root]])
         put = web.make(("put", 1, 0), [get])
         self.assertEqual(form_of(web, put), (only(done("0", 0)),) * 2)

@@ -10,7 +10,7 @@ from besideandthrough.webruns import ways
 from besideandthrough.webs import Web
 from besideandthrough.webtexts import read_web
 from tests import normal
-from tests.helpers import KERNELS, LEFT, SIGNS, wide_book
+from tests.helpers import KERNELS, LEFT, SIGNS, remade, wide_book
 from tests.nodes import all_nodes, books
 
 
@@ -149,9 +149,7 @@ class Bodies(unittest.TestCase):
         web, root = bow(9)
         book = Book("spread", [("cell", "c", 2)])
         other = Web(book)
-        numbers = {}
-        for node, (deed, children) in enumerate(web):
-            numbers[node] = other.make(deed, [numbers[child] for child in children])
+        numbers = remade(other, web)
         zero = other.make(("ret", "0"), ())
         get = other.make(("get", 1), [zero, numbers[root]])
         self.assertEqual(body_at(other, get, (0,)), only(done("0", 0)))

@@ -7,7 +7,7 @@ from besideandthrough.forms import form_of
 from besideandthrough.papers import Paper, cut, followed, judge, turned
 from besideandthrough.steps import is_step
 from besideandthrough.webs import Web
-from tests.helpers import SIGNS, node_of
+from tests.helpers import SIGNS, node_of, remade
 from tests.nodes import all_nodes
 from tests.test_steps import Stepper
 
@@ -225,8 +225,7 @@ class Following(WithNodes):
 
     def test_the_same_web(self):
         other = Web(BOOK)
-        for deed, children in self.web:
-            other.make(deed, children)
+        remade(other, self.web)
         self.assertEqual(list(other), list(self.web))
         first, second = Paper(self.web, self.long[:1]), Paper(other, self.long[1:2])
         self.assertEqual(fault(followed, first, second), 0)

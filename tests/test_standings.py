@@ -7,7 +7,7 @@ from besideandthrough.machine import Machine, run_code
 from besideandthrough.reader import read_program
 from besideandthrough.standings import read_standing, standings, write_standing
 from besideandthrough.states import starts
-from tests.helpers import LEFT, line_changes, text_changes
+from tests.helpers import line_changes, text_changes
 from tests.programs import programs, scripts
 
 BOOK = Book("choose", [("cell", "c", 2), ("outside", "o", (2,)), ("fail", "f", 1),

@@ -7,7 +7,7 @@ from besideandthrough.forms import form_of
 from besideandthrough.grafts import caught, grafted, results
 from besideandthrough.thens import rescue, then
 from besideandthrough.webs import Web
-from tests.helpers import KERNELS, LEFT, SIGNS, node_of
+from tests.helpers import KERNELS, LEFT, SIGNS, node_of, remade
 from tests.nodes import all_nodes
 from tests.test_forms import bow
 
@@ -139,9 +139,7 @@ class Rescue(unittest.TestCase):
         small, root = bow(9)
         book = Book("spread", [("fail", "f", 1)])
         web = Web(book)
-        numbers = {}
-        for node, (deed, children) in enumerate(small):
-            numbers[node] = web.make(deed, [numbers[child] for child in children])
+        numbers = remade(web, small)
         eight = form_of(web, numbers[small.children_of(root)[0]])
         first, fail = forms(book, "ret 9\nfail 1 0\nchoose 0 : 0 1", "fail 1 0")
         with self.assertRaises(TooLarge):
