@@ -94,6 +94,12 @@ class Rows(WithNodes):
             for a, b in ((-1, -1), (many, many), (self.zero, many), (many, self.zero),
                          (-1, self.zero), (self.zero, -1), (10 ** 40, self.zero)):
                 self.assertEqual(self.fault((word, a, b, ())), 1)
+        # The last node of the web is not the one with the number -1.
+        self.assertEqual(self.idle, many - 1)
+        self.assertIsNone(self.fault(("idle", self.idle, self.unit, ())))
+        self.assertEqual(self.fault(("idle", -1, self.unit, ())), 1)
+        self.assertIsNone(self.fault(("corner", self.idle, self.idle, ())))
+        self.assertEqual(self.fault(("corner", self.idle, -1, ())), 1)
 
     def test_like(self):
         for node in (self.zero, self.idle):
@@ -143,6 +149,7 @@ class Rows(WithNodes):
         idle, unit, zero = self.idle, self.unit, self.zero
         for ref in (0, -1, -2, 2, 3, 10 ** 20):
             self.assertEqual(self.fault(self.long[0], ("turn", unit, idle, (ref,))), 2)
+        self.assertEqual(self.fault(("turn", zero, zero, (0,))), 1)
         # A row cannot refer to itself or to a later row.
         self.assertEqual(self.fault(("turn", zero, zero, (1,))), 1)
         for refs in ((1, 3), (3, 2), (0, 2), (1, -1), (-2, 2), (1, 4)):

@@ -1,12 +1,15 @@
 import unittest
 
+from besideandthrough.acting import form_from_ends
 from besideandthrough.bodies import ends_within, only, settled
 from besideandthrough.books import Book
 from besideandthrough.errors import TooLarge
 from besideandthrough.forms import form_of
+from besideandthrough.grafts import caught, grafted
 from besideandthrough.points import point_of
 from besideandthrough.terms import (
     body_of, body_term, end_of, end_term, part_of, part_term, term_of)
+from besideandthrough.thens import rescue, then
 from besideandthrough.webs import Web, reached
 from besideandthrough.webtexts import write_web
 from tests import normal
@@ -249,6 +252,28 @@ class ManyForms(unittest.TestCase):
             return normal.drawn(kernel, tree[0][2], tree[0][3], one, other)
         except normal.TooMany:
             return None
+
+
+class TwelveAsks(unittest.TestCase):
+    def test_within_each_other(self):
+        for kernel in KERNELS:
+            book = Book(kernel, [("note", "m", SIGNS), ("outside", "o", (1,)), ("note", "n", LEFT),
+                                 ("cell", "c", 2), ("fail", "f", 1)])
+            web = Web(book)
+            node = node_of(web, "ret 0\nfail 5 0\nget 4 : 0 1")
+            for at in range(12):
+                node = web.make(("note", 3, at % 3), [web.make(("ask", 2, 0), [node])])
+                node = web.make(("note", 1, 1), [node])
+            form = form_of(web, node)
+            self.assertEqual(form_from_ends(web, node), form)
+            term = term_of(web, form)
+            self.assertEqual(part_of(web, 6, term), form)
+            self.assertEqual(form_of(web, term), form)
+            seven, eight = node_of(web, "ret 7\nnote 3 2 : 0"), node_of(web, "ret 8\nput 4 0 : 0")
+            told = grafted(web, node, {"0": seven})
+            self.assertEqual(then(book, form, {"0": form_of(web, seven)}), form_of(web, told))
+            told = caught(web, node, 5, 0, eight)
+            self.assertEqual(rescue(book, form, 5, 0, form_of(web, eight)), form_of(web, told))
 
 
 class Kernels(unittest.TestCase):

@@ -25,14 +25,22 @@ def bodies(functions):
             for name, parameters, body in functions}
 
 
-def size_of(book, expression, limit=400):
+def size_of(book, expression, **limit):
     """The tree size of an expression without names and functions, or None if TooLarge."""
     web = Web(book)
+    read = read_expression(expression)
     try:
-        node = unfold_expression(web, {}, read_expression(expression), {}, limit=limit)
+        node = unfold_expression(web, {}, read, {}, **limit)
     except TooLarge:
-        return None
-    return web.size_of(node)
+        node = None
+    # The whole program is unfolded in the same way.
+    try:
+        if unfold(web, ((), read), **limit) != node:
+            raise AssertionError("the program has another node")
+    except TooLarge:
+        if node is not None:
+            raise AssertionError("the program is too large") from None
+    return None if node is None else web.size_of(node)
 
 
 class Rules(unittest.TestCase):
