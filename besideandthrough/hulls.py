@@ -1,9 +1,9 @@
 """Whether a share point is a mixture of others, or what tells it from all of them."""
 
-from math import gcd, lcm
+from math import gcd
 
 from besideandthrough.points import listed_ends
-from besideandthrough.shares import below, lowest, minus, plus, times
+from besideandthrough.shares import below, lowest, minus, plus, times, whole_numbers
 
 NOTHING = (0, 1)
 WHOLE = (1, 1)
@@ -107,14 +107,6 @@ def _closer(gram, weights, new):
         inside = [at for at in inside if weights[at] != NOTHING]
 
 
-def _whole(weights):
-    """Returns integers in the same proportion as weights."""
-    common = 1
-    for _, den in weights:
-        common = lcm(common, den)
-    return [num * (common // den) for num, den in weights]
-
-
 def _balance(rows):
     """Returns weights of rows whose mixture is zero or has products above 0 with all rows.
 
@@ -127,7 +119,7 @@ def _balance(rows):
     weights = [NOTHING] * len(rows)
     weights[squares.index(min(squares))] = WHOLE
     while True:
-        whole = _whole(weights)
+        whole = whole_numbers(weights)
         products = [_dot(whole, line) for line in gram]
         if min(products) > 0 or not any(products):
             return whole

@@ -1,6 +1,6 @@
 """Fractions: pairs of a numerator and a positive denominator in lowest terms."""
 
-from math import gcd
+from math import gcd, lcm
 
 
 def lowest(num, den):
@@ -37,3 +37,11 @@ def greater(a, b):
 def mean(num, den, a, b):
     """Returns num / den times a plus (den - num) / den times b."""
     return plus(times(lowest(num, den), a), times(lowest(den - num, den), b))
+
+
+def whole_numbers(fractions):
+    """Returns the list of integers in the same proportion as fractions."""
+    common = 1
+    for _, den in fractions:
+        common = lcm(common, den)
+    return [num * (common // den) for num, den in fractions]

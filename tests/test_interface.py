@@ -47,6 +47,12 @@ FUNCTIONS = {
               "shares_of(web, piece, node)", "is_step(web, word, a, b)"),
     "papers": ("judge(paper)", "turned(paper)", "followed(paper, *others)",
                "cut(paper, *, row=0)"),
+    "papertexts": ("nodes_of(paper)", "write_paper(paper)", "read_paper(book, text)"),
+    "squares": ("collapse(draft, node)",),
+    "settles": ("settle(draft, node)",),
+    "pushes": ("push(draft, deed, node)",),
+    "leading": ("lead(draft, root)", "paper_between(web, a, b)"),
+    "worlds": ("write_world(world)", "read_world(book, text)"),
 }
 CLASSES = {
     "errors": {"DeedsError": (), "TextError": ("(line, token)",), "BookError": ("(layer)",),
@@ -62,10 +68,17 @@ CLASSES = {
     "machine": {"Machine": ("(book, code, start, script)", "step()", "outcome()")},
     "forms": {"Evaluator": ("(web)", "__call__(node, state)")},
     "papers": {"Paper": ("(web, rows)",)},
+    "drafts": {"Draft": ("(web)", "like(node)", "turn(number)", "join(first, second)",
+                         "within(a, b, refs)", "by(word, a, b)", "left(number)", "right(number)",
+                         "paper(number)")},
+    "leading": {"Leader": ("(draft)", "__call__(root)")},
+    "worlds": {"World": ("(book, scales, rows=())", "row_of(key)")},
 }
-GENERATORS = {"webruns": "ways", "standings": "standings", "bodies": "ends_within"}
-ITERATED = {"webs": "Web", "papers": "Paper"}
-PROPERTIES = {"machine": ("Machine", "instruction"), "forms": ("Evaluator", "worked")}
+GENERATORS = {"webruns": "ways", "standings": "standings", "bodies": "ends_within",
+              "papertexts": "nodes_of"}
+ITERATED = {"webs": "Web", "papers": "Paper", "drafts": "Draft", "worlds": "World"}
+PROPERTIES = {"machine": ("Machine", "instruction"), "forms": ("Evaluator", "worked"),
+              "leading": ("Leader", "nodes_led")}
 
 
 class Interface(unittest.TestCase):

@@ -211,12 +211,23 @@ class Language(unittest.TestCase):
             if hasattr(builtins, node.id):
                 self.assertIn(node.id, BUILTINS, where)
 
+    def test_methods_and_attributes(self):
+        """A name may be both in different classes only, and not with a decorator."""
+        stored = {node.attr for _, node in self.each(ast.Attribute)
+                  if isinstance(node.ctx, ast.Store)}
+        for where, found in self.each(ast.ClassDef):
+            methods = [node for node in found.body if isinstance(node, ast.FunctionDef)]
+            own = {node.attr for node in ast.walk(found) if isinstance(node, ast.Attribute)
+                   and isinstance(node.ctx, ast.Store) and ast.unparse(node.value) == "self"}
+            self.assertFalse({node.name for node in methods} & own, where)
+            decorated = {node.name for node in methods if node.decorator_list}
+            self.assertFalse(decorated & stored, where)
+
     def test_attributes(self):
         methods = {node.name for _, found in self.each(ast.ClassDef) for node in found.body
                    if isinstance(node, ast.FunctionDef)}
         stored = {node.attr for _, node in self.each(ast.Attribute)
                   if isinstance(node.ctx, ast.Store)}
-        self.assertFalse(methods & stored)
         self.assertFalse(stored & (BUILTIN_METHODS - ATTRIBUTES))
         for where, node in self.each(ast.Attribute):
             self.assertNotIn(node.attr, BARRED, where)
