@@ -22,8 +22,8 @@ def uses(book, deed, state):
     return []
 
 
-def _asked_end(book, deed, state, bodies):
-    """Returns the end of an ask whose children have these bodies, part by part."""
+def asked_end(book, deed, state, bodies):
+    """Returns the end of an ask whose children have these bodies or worths, part by part."""
     _, layer, outside = deed
     size = len(bodies) // book.ways_at(layer, outside)
     parts = [tuple(bodies[at:at + size]) for at in range(0, len(bodies), size)]
@@ -36,10 +36,37 @@ def body_over(book, deed, state, bodies):
     if word in ("choose", "draw"):
         return body_above(book.kernel, deed, bodies[0], bodies[1])
     if word == "ask":
-        return only(_asked_end(book, deed, state, bodies))
+        return only(asked_end(book, deed, state, bodies))
     if word in ("ret", "fail"):
         return only(end_at(book, state, deed))
     return bodies[0]
+
+
+def _worked_on(web, found, pair, over):
+    """Finds what belongs to a pair, or returns the pair and those that it needs first."""
+    node, state = pair
+    deed = web.deed_of(node)
+    children = web.children_of(node)
+    needed = [(children[way], each) for way, each in uses(web.book, deed, state)]
+    missing = [other for other in needed if other not in found]
+    if missing:
+        return [pair, *missing]
+    found[pair] = over(deed, state, [found[other] for other in needed])
+    return []
+
+
+def find_at(web, found, pair, over):
+    """Finds what belongs to a pair of a node and a state, and to all pairs that it needs.
+
+    The function `over` makes it for a deed and a state from what belongs to the pairs
+    that the deed uses. What has been found is kept in the dict `found`.
+    """
+    waiting = [pair]
+    while waiting:
+        each = waiting.pop()
+        if each not in found:
+            waiting.extend(_worked_on(web, found, each, over))
+    return found[pair]
 
 
 class Evaluator:
@@ -56,25 +83,9 @@ class Evaluator:
 
     def __call__(self, node, state):
         """Returns the body of a node at a state."""
-        waiting = [(node, state)]
-        while waiting:
-            pair = waiting.pop()
-            if pair not in self.bodies:
-                waiting.extend(self._worked_on(pair))
-        return self.bodies[node, state]
-
-    def _worked_on(self, pair):
-        """Finds the body of a pair, or returns the pair and those that it needs first."""
-        node, state = pair
-        deed = self.web.deed_of(node)
-        children = self.web.children_of(node)
-        needed = [(children[way], each) for way, each in uses(self.web.book, deed, state)]
-        missing = [other for other in needed if other not in self.bodies]
-        if missing:
-            return [pair, *missing]
-        bodies = [self.bodies[other] for other in needed]
-        self.bodies[pair] = body_over(self.web.book, deed, state, bodies)
-        return []
+        book = self.web.book
+        return find_at(self.web, self.bodies, (node, state),
+                       lambda deed, at, bodies: body_over(book, deed, at, bodies))
 
 
 def body_at(web, node, state):

@@ -53,6 +53,15 @@ FUNCTIONS = {
     "pushes": ("push(draft, deed, node)",),
     "leading": ("lead(draft, root)", "paper_between(web, a, b)"),
     "worlds": ("write_world(world)", "read_world(book, text)"),
+    "valuing": ("worth(world, web, root, state)", "body_worth(world, body)"),
+    "parting": ("parting_world(web, *roots)", "parted(web, a, b)"),
+    "slimming": ("slim(draft, root)", "slimmed(web, root)"),
+    "apart": ("one_then_other(web, one, other)", "other_then_one(web, one, other)",
+              "result_dropped(web, one)", "one_result_twice(web, one)",
+              "change_places(web, one, other)", "left_out(web, one)", "twice(web, one)"),
+    "undoing": ("undone(web, root)", "redone(web, root, pairs)"),
+    "lifting": ("places_within(lesser, greater)", "lifted(web, source, root)"),
+    "verdicts": ("verdict(web, one, other)", "stands(web, one, other, told)"),
 }
 CLASSES = {
     "errors": {"DeedsError": (), "TextError": ("(line, token)",), "BookError": ("(layer)",),
@@ -73,12 +82,16 @@ CLASSES = {
                          "paper(number)")},
     "leading": {"Leader": ("(draft)", "__call__(root)")},
     "worlds": {"World": ("(book, scales, rows=())", "row_of(key)")},
+    "bench": {"Bench": ("(book)", "change(change)", "perform(changes)", "back()", "again()",
+                        "form(name)", "text(name)", "compare(one, other)",
+                        "run(name, *, start, script=())")},
 }
 GENERATORS = {"webruns": "ways", "standings": "standings", "bodies": "ends_within",
               "papertexts": "nodes_of"}
 ITERATED = {"webs": "Web", "papers": "Paper", "drafts": "Draft", "worlds": "World"}
-PROPERTIES = {"machine": ("Machine", "instruction"), "forms": ("Evaluator", "worked"),
-              "leading": ("Leader", "nodes_led")}
+PROPERTIES = (("machine", "Machine", "instruction"), ("forms", "Evaluator", "worked"),
+              ("leading", "Leader", "nodes_led"), ("bench", "Bench", "titles"),
+              ("bench", "Bench", "history"))
 
 
 class Interface(unittest.TestCase):
@@ -118,10 +131,15 @@ class Interface(unittest.TestCase):
             self.assertIn("__iter__", vars(getattr(self.module(place), name)))
 
     def test_properties_cannot_be_assigned(self):
-        for place, (name, word) in PROPERTIES.items():
+        for place, name, word in PROPERTIES:
             found = vars(getattr(self.module(place), name))[word]
             self.assertIsInstance(found, property)
             self.assertIsNone(found.fset)
+
+    def test_a_static_method(self):
+        found = vars(self.module("bench").Bench)["replayed"]
+        self.assertIsInstance(found, staticmethod)
+        self.assertEqual(str(inspect.signature(found.__func__)), "(book, changes)")
 
 
 if __name__ == "__main__":
