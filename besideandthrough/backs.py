@@ -2,8 +2,9 @@
 
 from besideandthrough.bodies import body_above, only, settled
 from besideandthrough.points import point_of
-from besideandthrough.shares import lowest, plus, times, whole_numbers
+from besideandthrough.shares import whole_numbers
 from besideandthrough.states import has_values
+from besideandthrough.steps import shares_over
 from besideandthrough.webs import ordered
 
 
@@ -30,18 +31,7 @@ def leaves_of(web, node):
 
 def leaf_shares(web, node):
     """Returns a dict from the nodes over which draws of any piece lead to their shares."""
-    shares = {node: (1, 1)}
-    found = {}
-    # Each node stands behind all those that lead to it, so that its share is whole.
-    for each in reversed(ordered(node, lambda at: branches(web, at))):
-        if not branches(web, each):
-            found[each] = shares[each]
-            continue
-        _, _, num, den = web.deed_of(each)
-        for child, part in zip(branches(web, each), (num, den - num)):
-            share = times(shares[each], lowest(part, den))
-            shares[child] = plus(shares.get(child, (0, 1)), share)
-    return found
+    return shares_over(web, node, lambda at: branches(web, at))
 
 
 class Backs:
@@ -87,7 +77,8 @@ class Backs:
     def has_choice(self, node):
         """Returns True if there is a choose among the choices and draws of a node."""
         web = self.web
-        for each in ordered(node, lambda at: () if at in self.chosen else branches(web, at)):
+        missing = ordered(node, lambda at: () if at in self.chosen else branches(web, at))
+        for each in missing:
             if each not in self.chosen:
                 below = [self.chosen[child] for child in branches(web, each)]
                 self.chosen[each] = web.deed_of(each)[0] == "choose" or any(below)
@@ -95,7 +86,8 @@ class Backs:
 
     def body(self, node):
         """Returns the body of a node that is made of choices and draws over terms of ends."""
-        for each in ordered(node, lambda at: self._parts_of(at)):
+        needed = ordered(node, lambda at: self._parts_of(at))
+        for each in needed:
             if each not in self.bodies:
                 self.bodies[each] = self._body_read(each)
         return self.bodies[node]

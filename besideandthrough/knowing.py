@@ -96,5 +96,5 @@ def known_left_out(draft, node):
     """Leads from a node to one that does not read or put any known entry."""
     row = draft.like(node)
     for read in _reads_for(draft.web, node):
-        row = draft.join(row, _layer_known(draft, read, draft.right(row)))
+        row = draft.join(row, shortened(draft, _layer_known(draft, read, draft.right(row))))
     return row

@@ -40,6 +40,12 @@ class Line:
         self.take(number >= 0)
         return number
 
+    def below(self, most, many):
+        """Takes a number of at most this many digits that is less than another number."""
+        number = whole_in(self.here(), most)
+        self.take(0 <= number < many)
+        return number
+
     def name(self):
         """Takes a name."""
         return self.take(is_name(self.here()))

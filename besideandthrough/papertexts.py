@@ -4,7 +4,6 @@ from besideandthrough.errors import PaperError, WebError
 from besideandthrough.lines import Line
 from besideandthrough.papers import RULES, Paper
 from besideandthrough.steps import AXIOMS
-from besideandthrough.tokens import whole_in
 from besideandthrough.webs import Web, ordered
 from besideandthrough.webtexts import MOST_DIGITS, made_nodes, node_in, node_line
 
@@ -64,18 +63,11 @@ def write_paper(paper):
     return "\n".join(lines)
 
 
-def _side_in(line, many):
-    """Takes the index of one of the lines of nodes."""
-    side = whole_in(line.here(), MOST_DIGITS)
-    line.take(0 <= side < many)
-    return side
-
-
 def _row_in(line, many):
     """Takes the whole line of a row behind as many lines of nodes."""
     word = line.take(_is_row_word(line.here()))
-    a = _side_in(line, many)
-    b = _side_in(line, many)
+    a = line.below(MOST_DIGITS, many)
+    b = line.below(MOST_DIGITS, many)
     refs = []
     if line.here():
         line.mark(":")

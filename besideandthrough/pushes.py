@@ -5,69 +5,23 @@ from besideandthrough.moves import is_read, read_first, swapped, under
 from besideandthrough.settles import settle
 from besideandthrough.webs import ordered
 
+# Rows are kept by pairs of a node and a flag. Each leads from the write over the node to
+# what stands behind it. With the flag, the node is a part or a whole body, which is settled.
 
-class Pusher:
-    """Pushes one put or note into terms over one draft, into each term once."""
 
-    def __init__(self, draft, deed):
-        self.draft = draft
-        self.deed = deed
-        self.rows = {}
+def _is_own(deed, other):
+    """Returns True if another deed is a read or a write of the layer of a write."""
+    return other[0] in ("get", "put", "note") and other[1] == deed[1]
 
-    def __call__(self, node):
-        """Leads from the deed over the term of a part to the term of the part behind it."""
-        if node not in self.rows:
-            if is_read(self.draft.web, node):
-                self.rows[node] = self._into_reads(node)
-            else:
-                self.rows[node] = self._into_body(node)
-        return self.rows[node]
 
-    def _over(self, node):
-        return self.draft.web.make(self.deed, [node])
-
-    def _into_reads(self, node):
-        draft = self.draft
-        read = draft.web.deed_of(node)
-        if read[1] != self.deed[1]:
-            return self._exchanged(node, lambda child: self(child))
-        child = draft.web.children_of(node)[self.deed[2]]
-        row = draft.by("putget", self._over(node), self._over(child))
-        row = draft.join(row, self(child))
-        return draft.join(row, read_first(draft, read, draft.right(row)))
-
-    def _exchanged(self, node, lead):
-        """Exchanges the deed with that of a node, and leads on behind it by a function."""
-        row = swapped(self.draft, self._over(node))
-        refs = [lead(child) for child in self.draft.web.children_of(node)]
-        return self.draft.join(row, under(self.draft, self.draft.right(row), refs))
-
-    def _into_body(self, node):
-        web = self.draft.web
-        rows = {}
-        for each in ordered(node, lambda at: branches(web, at)):
-            if branches(web, each):
-                rows[each] = self._exchanged(each, lambda child: rows[child])
-            else:
-                rows[each] = self._into_end(each)
-        return self.draft.join(rows[node], settle(self.draft, self.draft.right(rows[node])))
-
-    def _into_end(self, node):
-        draft = self.draft
-        deed = draft.web.deed_of(node)
-        if deed[0] in ("put", "note"):
-            if deed[1] == self.deed[1]:
-                return self._into_own(node)
-            return self._exchanged(node, lambda child: self._into_end(child))
-        if deed[0] == "ask":
-            return self._exchanged(node, lambda child: self(child))
-        return swapped(draft, self._over(node))
-
-    def _into_own(self, node):
-        draft = self.draft
-        if self.deed[0] == "put":
-            return draft.by("putput", self._over(node), node)
-        return noted_once(draft, self._over(node))
+def _pairs_behind(web, deed, pair):
+    """Returns the pairs whose rows a pair needs."""
+    node, _ = pair
+    children = web.children_of(node)
+    if _is_own(deed, web.deed_of(node)):
+        return [(children[deed[2]], True)] if is_read(web, node) else []
+    whole = is_read(web, node) or web.deed_of(node)[0] == "ask"
+    return [(child, whole) for child in children]
 
 
 def noted_once(draft, node):
@@ -80,7 +34,38 @@ def noted_once(draft, node):
     return draft.by("notes", node, made)
 
 
+def _into_own(draft, node, refs):
+    """Leads from a write over a read or a write of its layer to what stands behind it."""
+    web = draft.web
+    deed = web.deed_of(node)
+    child = web.children_of(node)[0]
+    if deed[0] == "note":
+        return noted_once(draft, node)
+    if not refs:
+        return draft.by("putput", node, child)
+    row = draft.join(draft.by("putget", node, draft.left(refs[0])), refs[0])
+    return draft.join(row, read_first(draft, web.deed_of(child), draft.right(row)))
+
+
+def _row_for(draft, deed, pair, refs):
+    """Returns the row of a pair; refs are the rows of the pairs that it needs."""
+    web = draft.web
+    node, whole = pair
+    top = web.make(deed, [node])
+    if _is_own(deed, web.deed_of(node)):
+        return _into_own(draft, top, refs)
+    row = swapped(draft, top)
+    if refs:
+        row = draft.join(row, under(draft, draft.right(row), refs))
+    if whole and branches(web, node):
+        row = draft.join(row, settle(draft, draft.right(row)))
+    return row
+
+
 def push(draft, deed, node):
     """Leads from a put or a note over the term of a form to the term of the form behind it."""
-    pusher = Pusher(draft, deed)
-    return pusher(node)
+    rows = {}
+    for pair in ordered((node, True), lambda at: _pairs_behind(draft.web, deed, at)):
+        refs = [rows[behind] for behind in _pairs_behind(draft.web, deed, pair)]
+        rows[pair] = _row_for(draft, deed, pair, refs)
+    return rows[node, True]

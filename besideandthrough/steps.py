@@ -36,21 +36,30 @@ def members_of(web, piece, node):
     return sorted([member for member in found if not _branches(web, sort, member)])
 
 
-def shares_of(web, piece, node):
-    """Returns a dict from nodes to their shares in a node for a drawing piece."""
-    sort = ("draw", piece)
+def shares_over(web, node, follow):
+    """Returns a dict from nodes to their shares in a node.
+
+    The function `follow` returns the children of the draws that count, and none of others.
+    """
     shares = {node: (1, 1)}
     found = {}
     # Each node stands behind all those that lead to it, so that its share is whole.
-    for each in reversed(ordered(node, lambda at: _branches(web, sort, at))):
+    for each in reversed(ordered(node, follow)):
         share = shares[each]
-        if not _branches(web, sort, each):
+        children = follow(each)
+        if not children:
             found[each] = share
             continue
         _, _, num, den = web.deed_of(each)
-        for child, part in zip(web.children_of(each), (num, den - num)):
+        for child, part in zip(children, (num, den - num)):
             shares[child] = plus(shares.get(child, (0, 1)), times(share, lowest(part, den)))
     return found
+
+
+def shares_of(web, piece, node):
+    """Returns a dict from nodes to their shares in a node for a drawing piece."""
+    sort = ("draw", piece)
+    return shares_over(web, node, lambda at: _branches(web, sort, at))
 
 
 # The axioms below return True if there is a step from a to b.

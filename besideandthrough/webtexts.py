@@ -2,7 +2,6 @@
 
 from besideandthrough.errors import WebError
 from besideandthrough.lines import Line
-from besideandthrough.tokens import whole_in
 from besideandthrough.values import last_value_in, value_text
 from besideandthrough.webs import Web, reached
 
@@ -40,13 +39,6 @@ def write_web(web, root):
     return "\n".join(lines)
 
 
-def _child_in(line, index):
-    """Takes the line index of a child in the line with an index."""
-    child = whole_in(line.here(), MOST_DIGITS)
-    line.take(0 <= child < index)
-    return child
-
-
 def node_in(line, index):
     """Takes the whole line of a node with this index: a deed and its children."""
     if line.here() == "ret":
@@ -59,9 +51,9 @@ def node_in(line, index):
     children = []
     if word != "fail":
         line.mark(":")
-        children.append(_child_in(line, index))
+        children.append(line.below(MOST_DIGITS, index))
         while line.here():
-            children.append(_child_in(line, index))
+            children.append(line.below(MOST_DIGITS, index))
     line.finish()
     return tuple(deed), tuple(children)
 

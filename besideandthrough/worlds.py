@@ -154,16 +154,9 @@ def _taken(line, found):
     return found[0]
 
 
-def _below_in(line, many):
-    """Takes a number less than a number."""
-    number = whole_in(line.here(), MOST_DIGITS)
-    line.take(0 <= number < many)
-    return number
-
-
 def _kept_in(line, book, layer):
     """Takes what is kept at a layer."""
-    return tuple([_below_in(line, _entries_at(book, number)) for number in range(1, layer)])
+    return tuple([line.below(MOST_DIGITS, _entries_at(book, at)) for at in range(1, layer)])
 
 
 def _numbers_in(line, scales):
@@ -202,7 +195,7 @@ def _row_in(line, book, scales):
         return ("done", value_text(last_value_in(line)), kept), numbers
     layer = whole_in(line.here(), MOST_DIGITS)
     line.take(_is_layer_for(book, word, layer))
-    deed = (word, layer, _below_in(line, book.count_at(layer)))
+    deed = (word, layer, line.below(MOST_DIGITS, book.count_at(layer)))
     kept = _kept_in(line, book, layer)
     numbers = _numbers_in(line, scales)
     key = (*deed, kept)

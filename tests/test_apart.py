@@ -146,17 +146,23 @@ class Apart(unittest.TestCase):
         web = Web(Book("none", [("fail", "f", 1)]))
         deep, flat = node_of(web, "ret ((((0 0) 0) 0) 0)"), node_of(web, "ret 0")
         nearly, failing = node_of(web, "ret (((0 0) 0) 0)"), node_of(web, "fail 1 0")
+        before = list(web)
         for call in (one_then_other, other_then_one, change_places):
             for one, other in ((deep, flat), (flat, deep), (deep, deep)):
                 with self.assertRaises(WebError):
                     call(web, one, other)
+        self.assertEqual(list(web), before)
+        for call in (one_then_other, other_then_one, change_places):
             call(web, nearly, flat)
             # Nothing is paired with what a failing does not return.
             call(web, deep, failing)
             call(web, failing, deep)
+        before = list(web)
         for call in (one_result_twice, twice):
             with self.assertRaises(WebError):
                 call(web, deep)
+        self.assertEqual(list(web), before)
+        for call in (one_result_twice, twice):
             call(web, nearly)
         self.assertEqual(write_web(web, result_dropped(web, deep)), "ret 0")
         self.assertIs(left_out(web, deep), True)
@@ -166,8 +172,10 @@ class Apart(unittest.TestCase):
         large = node_of(web, NINE)
         for call, given in ((change_places, (large, 0)), (change_places, (0, large)),
                             (twice, (large,))):
+            before = list(web)
             with self.assertRaises(TooLarge):
                 call(web, *given)
+            self.assertEqual(list(web), before)
         # All nine share points become one if the results are dropped.
         self.assertIs(left_out(web, large), True)
 

@@ -1,25 +1,17 @@
 import random
 import unittest
 
-from besideandthrough.books import Book
 from besideandthrough.drafts import Draft
 from besideandthrough.papers import Paper, judge
-from besideandthrough.webs import Web
-from tests.helpers import KERNELS, SIGNS, node_of
+from tests.helpers import KERNELS, node_of
 from tests.nodes import all_nodes
+from tests.test_papers import WithNodes
 from tests.test_steps import Stepper
 
-BOOK = Book("choose", [("cell", "c", 2), ("note", "n", SIGNS)])
 
-
-class Drafts(unittest.TestCase):
+class Drafts(WithNodes):
     def setUp(self):
-        self.web = Web(BOOK)
-        self.zero = node_of(self.web, "ret 0")
-        self.one = node_of(self.web, "ret 1")
-        # Steps from here lead to zero, one after the other.
-        self.unit = node_of(self.web, "ret 0\nnote 2 0 : 0")
-        self.idle = node_of(self.web, "ret 0\nnote 2 0 : 0\nget 1 : 1 1")
+        super().setUp()
         self.draft = Draft(self.web)
 
     def test_a_new_draft(self):

@@ -1,19 +1,18 @@
 import unittest
 
-from besideandthrough.books import Book
 from besideandthrough.errors import PaperError, TextError, TooLarge, WebError
 from besideandthrough.drafts import Draft
 from besideandthrough.leading import lead
 from besideandthrough.papers import Paper, judge
 from besideandthrough.papertexts import nodes_of, read_paper, write_paper
-from besideandthrough.webs import Web, reached
+from besideandthrough.webs import reached
 from besideandthrough.webtexts import write_web
 from tests.helpers import (
-    KERNELS, SIGNS, fault, joined_tokens, line_changes, node_of, text_changes, token_changes)
+    KERNELS, fault, joined_tokens, line_changes, text_changes, token_changes)
 from tests.nodes import all_nodes
 from tests.oracles import is_number, node_fault, spacing_fault, split_line
+from tests.test_papers import BOOK, WithNodes
 
-BOOK = Book("choose", [("cell", "c", 2), ("note", "n", SIGNS)])
 ROW_WORDS = ("like", "turn", "join", "within", "idle", "corner", "regot", "putput", "putget",
              "unit", "notes", "lot", "share", "spread", "swap")
 TEXT = """ret 0
@@ -74,18 +73,9 @@ def listed(paper):
     return found
 
 
-class Writing(unittest.TestCase):
-    def setUp(self):
-        self.web = Web(BOOK)
-        self.one = node_of(self.web, "ret 1")
-        self.zero = node_of(self.web, "ret 0")
-        self.unit = node_of(self.web, "ret 0\nnote 2 0 : 0")
-        self.idle = node_of(self.web, "ret 0\nnote 2 0 : 0\nget 1 : 1 1")
-        self.rows = [("idle", self.idle, self.unit, ()), ("unit", self.unit, self.zero, ()),
-                     ("join", self.idle, self.zero, (1, 2))]
-
+class Writing(WithNodes):
     def test_the_examples_of_point_91(self):
-        text = write_paper(Paper(self.web, self.rows))
+        text = write_paper(Paper(self.web, self.long))
         self.assertEqual(text, "ret 0\nnote 2 0 : 0\nget 1 : 1 1\n"
                                "idle 2 1\nunit 1 0\njoin 2 0 : 1 2")
 
@@ -105,7 +95,7 @@ class Writing(unittest.TestCase):
                          [self.zero, self.unit, self.one, self.idle, both])
 
     def test_rows_that_cannot_be_written(self):
-        good = self.rows[0]
+        good = self.long[0]
         for bad in (("odd", self.one, self.one, ()), ("", self.one, self.one, ()),
                     ("ret", self.one, self.one, ()), ("like", -1, self.one, ()),
                     ("like", self.one, len(list(self.web)), ()), ("like", 99, 99, ())):

@@ -16,8 +16,7 @@ from besideandthrough.worlds import World
 from tests.helpers import KERNELS, SIGNS, node_of
 from tests.nodes import Nodes, all_nodes
 from tests.test_leading import NINE
-
-BOOK = Book("choose", [("cell", "c", 2), ("note", "n", SIGNS)])
+from tests.test_papers import BOOK, WithNodes
 
 
 def form_or_none(web, node):
@@ -87,16 +86,7 @@ class Verdicts(unittest.TestCase):
                 self.assertIsNone(self.judge(web, one, other))
 
 
-class Standing(unittest.TestCase):
-    def setUp(self):
-        self.web = Web(BOOK)
-        self.zero = node_of(self.web, "ret 0")
-        self.one = node_of(self.web, "ret 1")
-        self.unit = node_of(self.web, "ret 0\nnote 2 0 : 0")
-        self.idle = node_of(self.web, "ret 0\nnote 2 0 : 0\nget 1 : 1 1")
-        self.rows = [("idle", self.idle, self.unit, ()), ("unit", self.unit, self.zero, ()),
-                     ("join", self.idle, self.zero, (1, 2))]
-
+class Standing(WithNodes):
     def stands(self, one, other, *told):
         before = list(self.web)
         found = stands(self.web, one, other, told)
@@ -104,7 +94,7 @@ class Standing(unittest.TestCase):
         return found
 
     def test_papers(self):
-        paper = Paper(self.web, self.rows)
+        paper = Paper(self.web, self.long)
         self.assertIs(self.stands(self.idle, self.zero, "same", paper), True)
         # The other way round, and about other nodes.
         for one, other in ((self.zero, self.idle), (self.unit, self.zero), (self.idle, self.unit),
@@ -113,8 +103,8 @@ class Standing(unittest.TestCase):
 
     def test_papers_that_the_judge_does_not_take(self):
         for rows in ([("like", self.idle, self.zero, ())], [("unit", self.idle, self.zero, ())],
-                     [*self.rows[:2], ("join", self.idle, self.zero, (2, 1))],
-                     [("unit", self.zero, self.unit, ()), *self.rows],
+                     [*self.long[:2], ("join", self.idle, self.zero, (2, 1))],
+                     [("unit", self.zero, self.unit, ()), *self.long],
                      [("odd", self.idle, self.zero, ())], [("like", self.zero, 99, ())],
                      [("like", -1, -1, ())]):
             with self.subTest(rows):
@@ -137,7 +127,7 @@ class Standing(unittest.TestCase):
         node_of(other, "ret 5\nget 1 : 0 0")
         copied(other, self.web, self.idle)
         numbers = {old: copied(other, self.web, old) for old in (self.idle, self.unit, self.zero)}
-        rows = [(word, numbers[a], numbers[b], refs) for word, a, b, refs in self.rows]
+        rows = [(word, numbers[a], numbers[b], refs) for word, a, b, refs in self.long]
         paper = Paper(other, rows)
         self.assertIs(self.stands(self.idle, self.zero, "same", paper), True)
         self.assertIs(self.stands(self.idle, self.unit, "same", paper), False)
