@@ -33,17 +33,31 @@ def _behind(web, layer, node):
     return () if _stops(web.deed_of(node), layer) else web.children_of(node)
 
 
-def is_overtaken(web, node):
-    """Returns True if a node is a write that is overtaken, otherwise False."""
-    deed = web.deed_of(node)
-    if not is_write(deed):
-        return False
-    layer = deed[1]
-    for each in ordered(web.children_of(node)[0], lambda at: _behind(web, layer, at)):
-        met = web.deed_of(each)
-        if _stops(met, layer) and not _overtakes(met, layer):
-            return False
-    return True
+class Losses:
+    """Tells for nodes of one web whether writes are lost behind them; each is found once."""
+
+    def __init__(self, web):
+        self.web = web
+        self.found = {}
+
+    def _missing_behind(self, layer, node):
+        """Returns the nodes for which it must be told before it can be told for a node."""
+        return () if (node, layer) in self.found else _behind(self.web, layer, node)
+
+    def is_lost(self, layer, root):
+        """Returns True if a write of a layer is lost on each path from a node."""
+        missing = ordered(root, lambda at: self._missing_behind(layer, at))
+        for node in missing:
+            deed = self.web.deed_of(node)
+            if (node, layer) not in self.found:
+                behind = [self.found[child, layer] for child in _behind(self.web, layer, node)]
+                self.found[node, layer] = all(behind) if behind else _overtakes(deed, layer)
+        return self.found[root, layer]
+
+    def is_overtaken(self, node):
+        """Returns True if a node is a write that is overtaken, otherwise False."""
+        deed = self.web.deed_of(node)
+        return is_write(deed) and self.is_lost(deed[1], self.web.children_of(node)[0])
 
 
 def _met(draft, node):

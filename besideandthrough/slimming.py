@@ -3,7 +3,7 @@
 from besideandthrough.drafts import Draft
 from besideandthrough.knowing import known_left_out
 from besideandthrough.moves import swapped, under
-from besideandthrough.overtaking import is_overtaken, is_write, overtaken_left_out
+from besideandthrough.overtaking import Losses, is_write, overtaken_left_out
 from besideandthrough.webs import reached
 
 # For each word of a deed that is needless over one child, the axiom that leaves it out.
@@ -66,32 +66,33 @@ def _written_first(draft, node):
     return row
 
 
-def _slimmer(draft, node):
+def _slimmer(draft, losses, node):
     """Leads from a node over slim children to a slimmer one, or to itself."""
     deed = draft.web.deed_of(node)
-    if is_overtaken(draft.web, node):
+    if losses.is_overtaken(node):
         return overtaken_left_out(draft, node)
     if deed[0] == "note" and deed[2] == 0:
         return draft.by("unit", node, draft.web.children_of(node)[0])
     return _written_first(draft, node)
 
 
-def _slimmed_once(draft, root):
+def _slimmed_once(draft, losses, root):
     """Leads from a node to a slimmer one, or to itself if it is slim."""
     row = known_left_out(draft, root)
     rows = {}
     for node in reached(draft.web, draft.right(row)):
         refs = [rows[child] for child in draft.web.children_of(node)]
         rows[node] = under(draft, node, refs) if refs else draft.like(node)
-        rows[node] = draft.join(rows[node], _slimmer(draft, draft.right(rows[node])))
+        rows[node] = draft.join(rows[node], _slimmer(draft, losses, draft.right(rows[node])))
     return draft.join(row, rows[draft.right(row)])
 
 
 def slim(draft, root):
     """Returns the number of a row from a node to its slimmed node."""
     row = draft.like(root)
+    losses = Losses(draft.web)
     while True:
-        further = _slimmed_once(draft, draft.right(row))
+        further = _slimmed_once(draft, losses, draft.right(row))
         if draft.right(further) == draft.left(further):
             return row
         row = draft.join(row, further)

@@ -53,6 +53,19 @@ class Pushing(unittest.TestCase):
                      ("note", 5, 0)):
             self.judge(draft, deed, form)
 
+    def test_through_settings(self):
+        """Settings beneath and above, which asks and fails hide or leave as they are."""
+        layers = [("setting", "s", 2), ("cell", "c", 2), ("outside", "o", (2,)), ("fail", "f", 1),
+                  ("note", "n", LEFT)]
+        text = ("ret 0\nfail 4 0\nput 2 1 : 0\nlook 1 : 1 2\nnote 5 1 : 3\nget 2 : 3 0\n"
+                "ask 3 0 : 4 5\nlook 1 : 6 2\nput 2 0 : 7\nget 2 : 8 6")
+        for kernel in KERNELS:
+            web = Web(Book(kernel, layers))
+            draft = Draft(web)
+            form = form_from_ends(web, node_of(web, text))
+            for deed in (("put", 2, 0), ("put", 2, 1), ("note", 5, 0), ("note", 5, 2)):
+                self.judge(draft, deed, form)
+
     def test_a_note_that_makes_ends_equal(self):
         book = Book("choose", [("note", "n", LEFT)])
         web = Web(book)
