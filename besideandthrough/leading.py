@@ -98,6 +98,12 @@ def _over_terms(draft, node):
     return _exchanged(draft, node, deed[1], _cornered)
 
 
+def _led(draft, node, refs):
+    """Leads from a node to the term of its form; `refs` are such rows of its children."""
+    row = under(draft, node, refs) if refs else draft.like(node)
+    return draft.join(row, _over_terms(draft, draft.right(row)))
+
+
 class Leader:
     """Leads nodes over one draft, each of them once."""
 
@@ -112,12 +118,11 @@ class Leader:
 
     def __call__(self, root):
         """Returns the number of a row from a node to the term of its form."""
-        draft = self.draft
-        for node in reached(draft.web, root):
+        web = self.draft.web
+        for node in reached(web, root):
             if node not in self.led:
-                refs = [self.led[child] for child in draft.web.children_of(node)]
-                row = under(draft, node, refs) if refs else draft.like(node)
-                self.led[node] = draft.join(row, _over_terms(draft, draft.right(row)))
+                refs = [self.led[child] for child in web.children_of(node)]
+                self.led[node] = _led(self.draft, node, refs)
         return self.led[root]
 
 

@@ -4,7 +4,7 @@ from math import gcd
 
 from besideandthrough.errors import WorldError
 from besideandthrough.lines import Line
-from besideandthrough.states import has_values, starts_below
+from besideandthrough.states import starts_below
 from besideandthrough.tokens import whole_in
 from besideandthrough.values import is_value_text, last_value_in, value_text
 
@@ -16,8 +16,11 @@ MOST_DIGITS = 4000
 
 
 def _entries_at(book, layer):
-    """Returns how many entries can be kept of a layer."""
-    if has_values(book, layer) or book.word_at(layer) == "note":
+    """Returns how many entries can be kept of a layer.
+
+    A setting has several values, but 0 is kept in place of each of them.
+    """
+    if book.word_at(layer) in ("cell", "note"):
         return book.count_at(layer)
     return 1
 

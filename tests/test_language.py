@@ -4,6 +4,7 @@ import ast
 import builtins
 import pathlib
 import re
+import textwrap
 import unittest
 import warnings
 
@@ -65,6 +66,61 @@ def bound_names(tree):
 
 def imports_of(tree):
     return [node for node in tree.body if isinstance(node, ast.ImportFrom)]
+
+
+def methods_in(files):
+    """All methods of the classes of files."""
+    return [node for tree in files.values() for found in ast.walk(tree)
+            if isinstance(found, ast.ClassDef) for node in found.body
+            if isinstance(node, ast.FunctionDef)]
+
+
+def shared_names(files):
+    """The names that are those of a method and of an attribute (rule L18)."""
+    stored = {node.attr for tree in files.values() for node in ast.walk(tree)
+              if isinstance(node, ast.Attribute) and isinstance(node.ctx, ast.Store)}
+    return {node.name for node in methods_in(files)} & stored
+
+
+def names_called(function):
+    """The names of the functions and methods that the rows of a function call."""
+    found = set()
+    for node in ast.walk(function):
+        if isinstance(node, ast.Call):
+            called = node.func
+            found.add(called.attr if isinstance(called, ast.Attribute) else ast.unparse(called))
+    return found
+
+
+def is_run_unseen(method):
+    """Whether a method is run without a call that names it: by a sign or as a property."""
+    return method.name != "__init__" and method.name.startswith("__") or any(
+        ast.unparse(part) == "property" for part in method.decorator_list)
+
+
+def unseen_calls(files):
+    """The methods that are run unseen and call a shared name, with these names.
+
+    What the methods call in turn counts too, but for `__call__`, which may call anything.
+    """
+    shared = shared_names(files)
+    functions = {}
+    for tree in files.values():
+        for node in ast.walk(tree):
+            if isinstance(node, ast.FunctionDef):
+                functions.setdefault(node.name, []).append(node)
+    wrong = []
+    for method in methods_in(files):
+        if is_run_unseen(method):
+            called = names_called(method)
+            waiting = sorted(called) if method.name != "__call__" else []
+            while waiting:
+                for node in functions.get(waiting.pop(), ()):
+                    waiting += sorted(names_called(node) - called)
+                    called |= names_called(node)
+            if called & shared:
+                wrong.append((method.name, sorted(called & shared)))
+    return wrong
 
 
 class Language(unittest.TestCase):
@@ -222,6 +278,57 @@ class Language(unittest.TestCase):
             self.assertFalse({node.name for node in methods} & own, where)
             decorated = {node.name for node in methods if node.decorator_list}
             self.assertFalse(decorated & stored, where)
+
+    def test_methods_are_not_read_off_classes(self):
+        """Otherwise no name could be a method and an attribute."""
+        methods = {node.name for node in methods_in(trees()) if not node.decorator_list}
+        classes = {node.name for _, node in self.each(ast.ClassDef)}
+        for where, node in self.each(ast.Attribute):
+            if ast.unparse(node.value) in classes:
+                self.assertNotIn(node.attr, methods - {"__init__"}, where)
+
+    def test_names_of_methods_and_attributes_are_not_called_unseen(self):
+        files = trees()
+        self.assertLessEqual({"left", "right"}, shared_names(files))
+        self.assertEqual(unseen_calls(files), [])
+
+    def test_that_unseen_calls_are_found(self):
+        """The test of the package above would see such a call."""
+        classes = """
+class Side:
+    def __init__(self, right):
+        self.right = right
+
+class Draft:
+    def right(self, number):
+        return number
+
+def over(draft, row):
+    return draft.right(row)
+
+class Leader:
+    def __init__(self, draft):
+        self.draft = draft
+        self.first = draft.right(0)
+
+    def lead(self):
+        return self.draft.right(1)
+"""
+        for method, wrong in (
+            ("def __call__(self, row):\n return self.draft.right(row)", ["__call__"]),
+            ("def __call__(self, row):\n return [(lambda: self.draft.right(0))]", ["__call__"]),
+            ("def __call__(self, row):\n return over(self.draft, row)", []),
+            ("def __call__(self, row):\n return row.right", []),
+            ("def __len__(self):\n return len(over(self.draft, 1))", ["__len__"]),
+            ("def __iter__(self):\n return iter(self.lead())", ["__iter__"]),
+            ("@property\ndef many(self):\n return self.draft.right(1)", ["many"]),
+            ("@property\ndef many(self):\n return self.lead()", ["many"]),
+            ("@property\ndef many(self):\n return self.first", []),
+            ("def many(self):\n return self.draft.right(1)", []),
+        ):
+            with self.subTest(method):
+                files = {"odd.py": ast.parse(classes + textwrap.indent(method, "    "))}
+                self.assertEqual(unseen_calls(files), [(name, ["right"]) for name in wrong])
 
     def test_attributes(self):
         methods = {node.name for _, found in self.each(ast.ClassDef) for node in found.body

@@ -7,7 +7,7 @@ from besideandthrough.books import Book
 from besideandthrough.errors import TextError, WorldError
 from besideandthrough.worlds import World, read_world, write_world
 from tests.helpers import (
-    KERNELS, LEFT, fault, joined_tokens, line_changes, text_changes, token_changes)
+    KERNELS, LEFT, SIGNS, fault, joined_tokens, line_changes, text_changes, token_changes)
 from tests.oracles import spacing_fault, split_line, value_fault
 
 EXAMPLE = Book("none", [("outside", "o", (2,)), ("cell", "c", 2)])
@@ -22,8 +22,8 @@ BOOK = Book("choose", LAYERS)
 TEXT = """world 2
 done 1 2 0 0 0 : 3 -1 : (0 1)
 fail 5 1 0 1 0 0 : -20 7
-ask 4 0 1 0 1 : 0 5 : 0 1/2 -3 -7/3 1 1 0 0
-done 0 0 1 0 0 : 0 0 : 7"""
+ask 4 0 1 2 0 : 0 5 : 0 1/2 -3 -7/3 1 1 0 0
+done 0 1 0 0 0 : 0 0 : 7"""
 
 
 class Signed:
@@ -53,7 +53,7 @@ def entries_beneath(book, layer):
     """For each layer beneath a layer, how many entries can be kept of it."""
     many = []
     for word, _, extent in book.layers[:layer - 1]:
-        if word in ("cell", "setting"):
+        if word == "cell":
             many.append(extent)
         else:
             many.append(len(extent) if word == "note" else 1)
@@ -130,6 +130,28 @@ def world_fault(book, text):
     return None
 
 
+# Layers, and how many entries can be kept of each.
+KEPT = ((("cell", "c", 2), 2), (("cell", "c", 3), 3), (("note", "n", LEFT), 3),
+        (("note", "n", SIGNS), 2), (("setting", "s", 2), 1), (("setting", "s", 3), 1), (("fail", "g", 3), 1),
+        (("outside", "p", (2, 3)), 1))
+
+
+def kept_book(layer):
+    """A book in which a layer is beneath one of failings and an outside one."""
+    return Book("none", [layer, ("fail", "f", 1), ("outside", "o", (1,))])
+
+
+def kept_key(book, word, entry):
+    """A key with a word that keeps an entry of the first layer of such a book."""
+    if word == "done":
+        return word, "0", (entry, 0, 0)
+    if word == "fail":
+        return word, 2, 0, (entry,)
+    sort, _, extent = book.layers[0]
+    states = extent if sort in ("cell", "setting") else 1
+    return word, 3, 0, (entry, 0), ((((0, 1),),) * states,)
+
+
 class Worlds(unittest.TestCase):
     def fault(self, book, scales, *rows):
         """The row of the WorldError that creating a world raises, or None."""
@@ -166,9 +188,9 @@ class Worlds(unittest.TestCase):
         worth = ((1, 2), (-3, 1))
         for kernel in KERNELS:
             book = Book(kernel, LAYERS)
-            for key in (("done", "0", (0, 0, 0, 0, 0)), ("done", "(1 (2 3))", (1, 2, 1, 0, 0)),
-                        ("fail", 5, 0, (1, 2, 1, 0)), ("fail", 5, 1, (0, 0, 0, 0)),
-                        ("ask", 4, 0, (1, 2, 1), ((worth,) * 4,)),
+            for key in (("done", "0", (0, 0, 0, 0, 0)), ("done", "(1 (2 3))", (1, 2, 0, 0, 0)),
+                        ("fail", 5, 0, (1, 2, 0, 0)), ("fail", 5, 1, (0, 0, 0, 0)),
+                        ("ask", 4, 0, (1, 2, 0), ((worth,) * 4,)),
                         ("ask", 4, 1, (0, 0, 0), ((worth,) * 4, (worth,) * 4))):
                 self.assertIsNone(self.fault(book, 2, (key, (0, -5))))
         self.assertIsNone(self.fault(Book("none", ()), 1, (("done", "0", ()), (1,))))
@@ -184,12 +206,16 @@ class Worlds(unittest.TestCase):
             ("done", "(((((0 0) 0) 0) 0) 0)", (0, 0, 0, 0, 0)),
             ("done", "0", (0, 0, 0, 0)), ("done", "0", (0, 0, 0, 0, 0, 0)), ("done", "0", ()),
             ("done", "0", (2, 0, 0, 0, 0)), ("done", "0", (-1, 0, 0, 0, 0)),
-            ("done", "0", (0, 3, 0, 0, 0)), ("done", "0", (0, 0, 2, 0, 0)),
+            ("done", "0", (0, 3, 0, 0, 0)), ("done", "0", (0, 0, 1, 0, 0)),
+            ("done", "0", (0, 0, 2, 0, 0)), ("done", "0", (0, 0, -1, 0, 0)),
             ("done", "0", (0, 0, 0, 1, 0)), ("done", "0", (0, 0, 0, 0, 1)),
             ("fail", 5, 0), ("fail", 5, 0, (0, 0, 0, 0), ()), ("fail", 4, 0, (0, 0, 0)),
             ("fail", 0, 0, ()), ("fail", 6, 0, (0, 0, 0, 0, 0)), ("fail", -1, 0, (0, 0, 0, 0)),
             ("fail", 5, 2, (0, 0, 0, 0)), ("fail", 5, -1, (0, 0, 0, 0)),
             ("fail", 5, 0, (0, 0, 0)), ("fail", 5, 0, (0, 0, 0, 0, 0)), ("fail", 5, 0, (0, 0, 0, 1)),
+            ("fail", 5, 0, (2, 0, 0, 0)), ("fail", 5, 0, (0, 3, 0, 0)), ("fail", 5, 0, (0, 0, 1, 0)),
+            ("ask", 4, 0, (2, 0, 0), (part,)), ("ask", 4, 0, (0, 3, 0), (part,)),
+            ("ask", 4, 0, (0, 0, 1), (part,)),
             ("ask", 4, 0, (0, 0, 0)), ("ask", 4, 0, (0, 0, 0), (part,), ()),
             ("ask", 5, 0, (0, 0, 0, 0), (part,)), ("ask", 4, 2, (0, 0, 0), (part,)),
             ("ask", 4, -1, (0, 0, 0), (part,)), ("ask", 4, 0, (0, 0), (part,)),
@@ -206,6 +232,15 @@ class Worlds(unittest.TestCase):
             with self.subTest(key):
                 self.assertEqual(self.fault(BOOK, 2, (key, (0, 0))), 1)
                 self.assertEqual(self.fault(BOOK, 2, good, (key, (0, 0)), (key, (0, 0))), 2)
+
+    def test_what_can_be_kept(self):
+        for layer, many in KEPT:
+            book = kept_book(layer)
+            for entry in range(-2, 8):
+                for word in ("done", "fail", "ask"):
+                    with self.subTest(layer=layer, entry=entry, word=word):
+                        row = (kept_key(book, word, entry), (1,))
+                        self.assertEqual(self.fault(book, 1, row), None if 0 <= entry < many else 1)
 
     def test_the_number_of_integers(self):
         key = ("done", "0", (0, 0, 0, 0, 0))
@@ -239,9 +274,9 @@ class Texts(unittest.TestCase):
         self.assertEqual(world.rows, (
             (("done", "(0 1)", (1, 2, 0, 0, 0)), (3, -1)),
             (("fail", 5, 1, (0, 1, 0, 0)), (-20, 7)),
-            (("ask", 4, 0, (1, 0, 1), ((((0, 1), (1, 2)), ((-3, 1), (-7, 3)), ((1, 1), (1, 1)),
+            (("ask", 4, 0, (1, 2, 0), ((((0, 1), (1, 2)), ((-3, 1), (-7, 3)), ((1, 1), (1, 1)),
                                         ((0, 1), (0, 1))),)), (0, 5)),
-            (("done", "7", (0, 0, 1, 0, 0)), (0, 0))))
+            (("done", "7", (0, 1, 0, 0, 0)), (0, 0))))
         self.assertEqual(write_world(world), TEXT)
 
     def test_worlds_without_rows_and_layers(self):
@@ -277,6 +312,9 @@ class Texts(unittest.TestCase):
             ("world 01", 1, 2), ("world 1/2", 1, 2), ("world 1 1", 1, 3), ("world  1", 1, 2),
             ("world 1\n", 2, 1), ("world 1\nodd", 2, 1), ("world 1\ndone", 2, 2),
             ("world 1\ndone 2", 2, 2), ("world 1\ndone 0 3", 2, 3), ("world 1\ndone 0 0 0 1", 2, 5),
+            ("world 1\ndone 0 0 1 0 0 : 1 : 0", 2, 4), ("world 1\nfail 5 1 0 0 1 0 : 1", 2, 6),
+            ("world 1\nask 4 0 0 0 1 : 1 : 1 2 3 4", 2, 6), ("world 1\nask 4 0 0 0 2", 2, 6),
+            ("world 1\ndone 0 0 0 0 0 : 1 : 0\nfail 5 0 1 2 1 0 : 1", 3, 6),
             ("world 1\ndone 0 0 0 0 : 1 : 0", 2, 6), ("world 1\ndone 0 0 0 0 0 1 : 0", 2, 7),
             ("world 1\ndone 0 0 0 0 0 : : 0", 2, 8), ("world 1\ndone 0 0 0 0 0 : 1 2 : 0", 2, 9),
             ("world 2\ndone 0 0 0 0 0 : 1 : 0", 2, 9), ("world 1\ndone 0 0 0 0 0 : 1", 2, 9),
@@ -308,6 +346,23 @@ class Texts(unittest.TestCase):
             with self.subTest(text):
                 self.assertEqual(fault(read_world, BOOK, text), (line, token))
                 self.assertEqual(world_fault(BOOK, text), (line, token))
+
+    def test_what_can_be_kept(self):
+        for layer, many in KEPT:
+            book = kept_book(layer)
+            for entry in range(8):
+                for word, place in (("done", 2), ("fail", 4), ("ask", 4)):
+                    world = World(book, 1, [(kept_key(book, word, 0), (1,))])
+                    first, line = write_world(world).split("\n")
+                    tokens = line.split(" ")
+                    tokens[place - 1] = str(entry)
+                    text = f"{first}\n{' '.join(tokens)}"
+                    with self.subTest(layer=layer, text=text):
+                        if entry < many:
+                            rows = ((kept_key(book, word, entry), (1,)),)
+                            self.assertEqual(read_world(book, text).rows, rows)
+                        else:
+                            self.assertEqual(fault(read_world, book, text), (2, place))
 
     def test_layers_that_a_book_does_not_have(self):
         book = Book("none", [("cell", "c", 2)])
